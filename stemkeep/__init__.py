@@ -1,0 +1,1 @@
+"""Stemkeep: lasting arrays by any keys, and locks on their stems."""
