@@ -1,1 +1,1 @@
-"""Stemkeep: lasting arrays by any keys, and locks on their stems."""
+"""Stemkeep: lasting arrays by any keys, locks on stems, dealings, and programs of rows."""

@@ -38,12 +38,8 @@ class Arrays:
     def kill(self, ref):
         """Take away a node's worth and all beneath; tell how many worths went."""
         need_reference(ref)
-        path = _path(ref)
-        place = self._tree.at(path)
-        if place is None:
-            return 0
-        self._tree.cut(path)
-        return len(place.walked(path))
+        gone = self.uproot(ref)
+        return 0 if gone is None else len(gone.walked(()))
 
     def names(self):
         """Tell a list of the names of nodes, sorted."""
@@ -91,6 +87,23 @@ class Arrays:
         for ref, worth in given:
             self.put(ref, worth)
         return len(given)
+
+    def uproot(self, ref):
+        """Take away a node and all beneath it; tell it as the tree that graft takes back, or None."""
+        path = _path(ref)
+        place = self._tree.at(path)
+        if place is not None:
+            self._tree.cut(path)
+        return place
+
+    def graft(self, ref, gone):
+        """Give back what uproot told of a reference where nothing has been put meanwhile, or is there no more."""
+        if gone is not None:
+            self._tree.graft(_path(ref), gone)
+
+    def bare(self, ref):
+        """Take away the worth alone of a node."""
+        self._tree.bare(_path(ref))
 
 
 class Desk:

@@ -118,6 +118,12 @@ def is_asking_reference(thing):
     return is_pair(thing) and is_name(thing[0]) and is_asking_row(thing[1])
 
 
+def stems_of(ref):
+    """Tell a list of the stems of a reference, the shortest one first, itself the last one."""
+    name, keys = ref
+    return [(name, keys[:size]) for size in range(len(keys) + 1)]
+
+
 def is_stem(one, other):
     """Tell whether one reference is a stem of the other: of its name, and its keys the beginning of the other's."""
     return one[0] == other[0] and one[1] == other[1][:len(one[1])]

@@ -20,12 +20,20 @@ class Locks:
         need_reference(ref)
         if self._place_of(job) is not None:
             raise Waiting(job)
-        ahead = [] if self._holds_stem_of(job, ref) else self._queue
-        if self._barring(job, ref, ahead):
+        if not self.may_hold(job, ref):
             self._queue.append((job, ref))
             return False
         self._take(job, ref)
         return True
+
+    def may_hold(self, job, ref):
+        """Tell whether a job that does not wait would hold a reference at once if it asked for it."""
+        ahead = [] if self._holds_stem_of(job, ref) else self._queue
+        return not self._barring(job, ref, ahead)
+
+    def is_waiting(self, job):
+        """Tell whether a job waits."""
+        return self._place_of(job) is not None
 
     def free(self, job, ref):
         """Let go of a reference once; tell the jobs that hold now what they waited for."""

@@ -39,13 +39,31 @@ class Tree:
 
     def plant(self, path, worth):
         """Give the place at a path its worth, and make it where it is not there."""
+        self._made(path).worth = worth
+
+    def graft(self, path, other):
+        """Give the place at a path, which is not there, all that another place has; that one is used up by it."""
+        place = self._made(path)
+        place.worth = other.worth
+        place.row = other.row
+        place.beneath = other.beneath
+
+    def _made(self, path):
+        """Tell the place at a path; make it where it is not there."""
         place = self
         for key in path:
             if key not in place.beneath:
                 place.row.insert(_how_many_ahead(place.row, key), key)
                 place.beneath[key] = Tree()
             place = place.beneath[key]
-        place.worth = worth
+        return place
+
+    def bare(self, path):
+        """Take away the worth alone of the place at a path of one key at least, which is there."""
+        place = self.at(path)
+        place.worth = None
+        if not place.row:
+            self.cut(path)
 
     def cut(self, path):
         """Take away the place at a path of one key at least, which is there, and all above that it leaves bare."""

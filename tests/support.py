@@ -169,3 +169,63 @@ class PlainLocks:
             new = [other for other in sorted(set(new)) if other not in reached]
             reached.extend(new)
         return job in reached
+
+
+class PlainDealings:
+    """Dealings as plain arrays and, for each job, what each reference was and had beneath it ahead of each change."""
+
+    def __init__(self):
+        self.plain = PlainArrays()
+        self.begun = {}
+        self.refs = {}
+
+    def level(self, job):
+        return len(self.begun.get(job, []))
+
+    def start(self, job):
+        self.begun.setdefault(job, []).append([])
+
+    def keep(self, job):
+        done = self.begun[job].pop()
+        if self.begun[job]:
+            self.begun[job][-1].extend(done)
+        self.forget(job)
+
+    def undo(self, job):
+        for ref, nodes in reversed(self.begun[job].pop()):
+            self.plain.kill(ref)
+            self.plain.worths.update(nodes)
+        self.forget(job)
+
+    def end(self, job):
+        while self.level(job):
+            self.undo(job)
+
+    def forget(self, job):
+        if not self.level(job):
+            self.refs.pop(job, None)
+
+    def touch(self, job, ref):
+        if self.level(job):
+            self.begun[job][-1].append((ref, dict(self.plain.rows(ref))))
+            if ref not in self.refs.setdefault(job, []):
+                self.refs[job].append(ref)
+
+    def touched(self, job):
+        return list(self.refs.get(job, []))
+
+    def bar(self, job, ref):
+        """Tell the (job, reference) that bars a job from a reference, or None."""
+        for other in sorted(self.refs):
+            for touched in self.refs[other]:
+                if other != job and meeting(touched, ref):
+                    return (other, touched)
+        return None
+
+    def put(self, job, ref, worth):
+        self.touch(job, ref)
+        self.plain.put(ref, worth)
+
+    def kill(self, job, ref):
+        self.touch(job, ref)
+        return self.plain.kill(ref)

@@ -3,7 +3,7 @@
 import inspect
 import unittest
 
-from stemkeep import arrays, keys, locks
+from stemkeep import arrays, dealings, jobs, keys, locks, terms, texts
 
 FUNCTIONS = {
     keys: {
@@ -12,6 +12,12 @@ FUNCTIONS = {
         "is_stem": "(one, other)", "meet": "(one, other)",
     },
     arrays: {"long": "(last, keys)"},
+    terms: {"is_expression": "(thing)"},
+    jobs: {"is_program": "(thing)", "drive": "(hall, picks, *, most=5000)"},
+    texts: {
+        "show_expression": "(expression)", "show_program": "(program)", "read_expression": "(text)",
+        "read_program": "(text)", "show_arrays": "(arrays)", "read_arrays": "(texts)",
+    },
 }
 
 ASKED = {
@@ -26,6 +32,24 @@ CLASSES = {
         "lock": "(job, ref)", "free": "(job, ref)", "free_all": "(job)", "leave": "(job)", "holds": "()",
         "waits": "()", "bars": "(job)", "ring": "()",
     },
+    dealings.Dealings: {
+        "start": "(job)", "keep": "(job)", "undo": "(job)", "end": "(job)", "put": "(job, ref, worth)",
+        "kill": "(job, ref)", "data": "(job, ref)", "level": "(job)", "read": "(job, ref, *, otherwise='')",
+        "order": "(job, ref, *, back=False)", "touched": "(job)",
+    },
+    terms.Scene: {
+        "reckon": "(expression)", "place": "(expression, *, empty=False)", "last": "()", "recall": "(ref)",
+    },
+    jobs.Hall: {
+        "turn": "(job)", "arrays": "()", "writings": "(job)", "waiting": "()", "stuck": "()", "fault": "(job)",
+        "is_over": "(job)",
+    },
+}
+
+MADE = {
+    arrays.Arrays: ("()", arrays), arrays.Desk: ("(arrays)", arrays), locks.Locks: ("()", locks),
+    dealings.Dealings: ("(arrays)", dealings), terms.Scene: ("(own, dealings, job=0)", terms),
+    jobs.Hall: ("(program, jobs, *, rows=None)", jobs),
 }
 
 
@@ -52,11 +76,10 @@ class TestInterface(unittest.TestCase):
                     self.assertEqual(without_self(vars(told)[name]), arguments)
 
     def test_classes_are_made_by_what_the_interface_lists(self):
-        self.assertEqual(str(inspect.signature(arrays.Arrays)), "()")
-        self.assertEqual(str(inspect.signature(arrays.Desk)), "(arrays)")
-        self.assertEqual(str(inspect.signature(locks.Locks)), "()")
-        for told, module in ((arrays.Arrays, arrays), (arrays.Desk, arrays), (locks.Locks, locks)):
-            self.assertEqual(told.__module__, module.__name__)
+        for told, (arguments, module) in MADE.items():
+            with self.subTest(told.__name__):
+                self.assertEqual(str(inspect.signature(told)), arguments)
+                self.assertEqual(told.__module__, module.__name__)
 
 
 if __name__ == "__main__":
