@@ -7,14 +7,7 @@ from stemkeep.dealings import Dealings
 from stemkeep.errors import Held, NoDealing, NoJob, NoRef, NoWorth
 from tests.support import Case, PlainDealings
 from tests.test_arrays import NO_ASKING, NO_REFERENCES, NO_WORTHS, state
-from tests.test_locks import NO_JOBS
-
-A = ("a", ())
-AX = ("a", ("x",))
-AXY = ("a", ("x", "y"))
-AY = ("a", ("y",))
-B = ("b", ())
-BX = ("b", ("x",))
+from tests.test_locks import A, AX, AXY, AY, B, BX, NO_JOBS
 
 
 def dealings_of(*nodes):
