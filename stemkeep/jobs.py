@@ -22,7 +22,7 @@ def is_program(thing):
 
 
 def _is_label(thing):
-    """Tell whether a thing is a tuple of a name, a list of unlike names and a list of lists, whatever is in these."""
+    """Tell whether a thing is a tuple of a name, a list of unlike names and a list, whatever is in that."""
     if not isinstance(thing, tuple) or len(thing) != 3:
         return False
     label, params, rows = thing
