@@ -39,7 +39,8 @@ class Tree:
 
     def plant(self, path, worth):
         """Give the place at a path its worth, and make it where it is not there."""
-        self._made(path).worth = worth
+        place = self._made(path)
+        place.worth = worth
 
     def graft(self, path, other):
         """Give the place at a path, which is not there, all that another place has; that one is used up by it."""

@@ -29,6 +29,31 @@ def all_builtins():
     return set(dir(__import__("builtins")))
 
 
+def names_of(function):
+    """Tell the names that a function gives values to: its parameters, its locals, and those of what it holds."""
+    nodes = list(ast.walk(function))
+    params = {node.arg for node in nodes if isinstance(node, ast.arg)}
+    return params | {node.id for node in nodes if isinstance(node, ast.Name) and isinstance(node.ctx, ast.Store)}
+
+
+def base_of(target):
+    """Tell what stands leftmost in an attribute that is given a value."""
+    while isinstance(target, (ast.Attribute, ast.Subscript)):
+        target = target.value
+    return target
+
+
+def strange_attributes(tree):
+    """Tell the lines in which an attribute is given a value otherwise than through a local name."""
+    given = [node for node in ast.walk(tree) if isinstance(node, ast.Attribute) and isinstance(node.ctx, ast.Store)]
+    local = set()
+    for function in ast.walk(tree):
+        if isinstance(function, ast.FunctionDef):
+            names = names_of(function)
+            local.update(node for node in ast.walk(function) if isinstance(node, ast.Name) and node.id in names)
+    return [node.lineno for node in given if base_of(node) not in local]
+
+
 class TestLanguage(unittest.TestCase):
 
     def each(self):
@@ -93,6 +118,19 @@ class TestLanguage(unittest.TestCase):
                 self.assertNotIn(node.attr, BARRED_NAMES, where)
                 if isinstance(node.ctx, ast.Store):
                     self.assertNotIn(node.attr, BARRED_ATTRIBUTES, where)
+
+    def test_attributes_through_local_names(self):
+        for path, _, tree in self.each():
+            self.assertEqual(strange_attributes(tree), [], path)
+
+    def test_strange_attributes_are_seen(self):
+        for row in ("made(box).n = 1", "self.made().n = 1", "self.made().row.n = 1", "made()[0].n = 1", "Box.n = 1",
+                    "TOP.n = 1", "made().n += 1", "one, made().n = 1, 2", "(1 and box).n = 1"):
+            self.assertEqual(strange_attributes(ast.parse(f"def give(self, box):\n    {row}\n")), [2], row)
+        self.assertEqual(strange_attributes(ast.parse("TOP = 1\nTOP.n = 1\n")), [2])
+        for row in ("self.n = 1", "box.n += 1", "box.row.n = 1", "box.rows[0].n = 1", "it = made(); it.n = 1",
+                    "for it in made(): it.n = 1"):
+            self.assertEqual(strange_attributes(ast.parse(f"def give(self, box):\n    {row}\n")), [], row)
 
 
 if __name__ == "__main__":
